@@ -1,0 +1,1 @@
+"""Looprank: machines over words that never end."""

@@ -1,0 +1,217 @@
+"""The rules of ../shared/LANGUAGE.md that can be seen in the package's files, by their numbers."""
+
+import ast
+import builtins
+import pathlib
+import re
+import unittest
+
+PACKAGE = pathlib.Path(__file__).resolve().parent.parent / "looprank"
+FILES = sorted(PACKAGE.glob("*.py"))
+TREES = {path.stem: ast.parse(path.read_text()) for path in FILES}
+
+STATEMENTS = (
+    ast.Module, ast.FunctionDef, ast.ClassDef, ast.Assign, ast.AugAssign, ast.If, ast.While, ast.For, ast.Return,
+    ast.Break, ast.Continue, ast.Pass, ast.Raise, ast.Try, ast.ExceptHandler, ast.Expr, ast.ImportFrom, ast.alias,
+)
+EXPRESSIONS = (
+    ast.Constant, ast.Name, ast.Attribute, ast.Subscript, ast.Slice, ast.Call, ast.keyword, ast.BinOp, ast.UnaryOp,
+    ast.BoolOp, ast.Compare, ast.IfExp, ast.List, ast.Tuple, ast.Dict, ast.Set, ast.ListComp, ast.comprehension,
+    ast.JoinedStr, ast.FormattedValue, ast.Lambda, ast.arguments, ast.arg, ast.expr_context, ast.boolop,
+    ast.operator, ast.unaryop, ast.cmpop,
+)
+BUILT_IN = """len range enumerate zip min max sum abs sorted reversed int str bool list tuple dict set frozenset
+    isinstance ord repr any all divmod ValueError KeyError IndexError LookupError ZeroDivisionError ArithmeticError
+    OverflowError RuntimeError NotImplementedError StopIteration""".split()
+METHODS = """append clear copy count endswith extend find get index insert isalnum isalpha isdigit islower isspace
+    isupper items join keys ljust lower lstrip partition pop remove replace reverse rfind rjust rpartition rsplit
+    rstrip setdefault split splitlines startswith strip update upper values zfill bit_length""".split()
+DUNDERS = "__init__ __eq__ __repr__ __str__ __len__".split()
+WORDS_OUT = re.compile(
+    r"\b(type|typing|typing_extensions|enum|Enum|IntEnum|StrEnum|Flag|IntFlag|Generic|Protocol|ABC|ABCMeta|namedtuple"
+    r"|NamedTuple|TypedDict|TYPE_CHECKING|abstractmethod)\b|dataclass|overload|contextmanager"
+)
+NAMES_OUT = "register mro elements open input version_info with_traceback add_note".split()
+VALUES_OUT = """items keys values pop update append clear extend insert remove reverse setdefault sort args encode
+    format""".split()
+
+
+def nodes(kind):
+    return [(stem, node) for stem, tree in TREES.items() for node in ast.walk(tree) if isinstance(node, kind)]
+
+
+def drawn_from(stem):
+    return [node.module.split(".")[1] for node in TREES[stem].body if isinstance(node, ast.ImportFrom)]
+
+
+def methods_defined():
+    return {part.name for stem, node in nodes(ast.ClassDef) for part in node.body if isinstance(part, ast.FunctionDef)}
+
+
+def names_at_top(stem):
+    found = []
+    for node in TREES[stem].body:
+        if isinstance(node, ast.ImportFrom):
+            found += [name.name for name in node.names]
+        if isinstance(node, (ast.FunctionDef, ast.ClassDef)):
+            found.append(node.name)
+        if isinstance(node, ast.Assign):
+            found.append(node.targets[0].id)
+    return found
+
+
+def names_within(stem):
+    """Parameters and locals, and functions within functions."""
+    found = []
+    for top in TREES[stem].body:
+        for node in ast.walk(top):
+            if isinstance(node, ast.Name) and isinstance(node.ctx, ast.Store) and not isinstance(top, ast.Assign):
+                found.append(node.id)
+            if isinstance(node, ast.arg):
+                found.append(node.arg)
+            if isinstance(node, ast.FunctionDef) and node is not top and node.name not in methods_defined():
+                found.append(node.name)
+            if isinstance(node, ast.ExceptHandler) and node.name:
+                found.append(node.name)
+    return found
+
+
+class Language(unittest.TestCase):
+    def test_l1_only_python_files(self):
+        for path in PACKAGE.iterdir():
+            if path.name != "__pycache__":
+                self.assertRegex(path.name, r"^[a-z][a-z0-9_]*\.py$|^__(init|main)__\.py$")
+
+    def test_l2_l16_imports(self):
+        for stem, node in nodes((ast.Import, ast.ImportFrom)):
+            self.assertIsInstance(node, ast.ImportFrom)
+            self.assertIn(node, TREES[stem].body)
+            self.assertRegex(node.module, r"^looprank\.[a-z0-9_]+$")
+            source = node.module.split(".")[1]
+            drawn = [name.name for part in TREES[source].body if isinstance(part, ast.ImportFrom) for name in part.names]
+            for name in node.names:
+                self.assertIn(name.name, names_at_top(source), stem)
+                self.assertNotIn(name.name, drawn, stem)
+                self.assertIsNone(name.asname)
+
+    def test_l16_no_two_files_draw_from_one_another(self):
+        for stem in TREES:
+            seen = []
+            left = drawn_from(stem)
+            while left:
+                other = left.pop()
+                self.assertNotEqual(other, stem)
+                if other not in seen:
+                    seen.append(other)
+                    left.extend(drawn_from(other))
+
+    def test_l3_the_top_of_a_file(self):
+        for stem, tree in TREES.items():
+            self.assertIsNotNone(ast.get_docstring(tree), stem)
+            for node in tree.body[1:]:
+                self.assertIsInstance(node, (ast.ImportFrom, ast.FunctionDef, ast.ClassDef, ast.Assign), stem)
+
+    def test_l4_l21_functions(self):
+        for stem, node in nodes((ast.FunctionDef, ast.Lambda)):
+            given = node.args
+            self.assertFalse(given.vararg or given.kwarg or given.kwonlyargs or given.posonlyargs, (stem, node.lineno))
+            self.assertFalse(getattr(node, "decorator_list", []) or getattr(node, "returns", None))
+            self.assertFalse([part for part in given.args if part.annotation])
+
+    def test_l5_classes(self):
+        for stem, node in nodes(ast.ClassDef):
+            self.assertFalse(node.decorator_list or node.keywords or len(node.bases) > 1, (stem, node.name))
+            self.assertIn(node, TREES[stem].body)
+            for part in node.body:
+                self.assertIsInstance(part, (ast.FunctionDef, ast.Pass), (stem, node.name))
+
+    def test_l6_l7_statements_and_expressions(self):
+        for stem, node in nodes(ast.AST):
+            self.assertIsInstance(node, STATEMENTS + EXPRESSIONS, (stem, getattr(node, "lineno", 0)))
+            self.assertNotIsInstance(node, (ast.Div, ast.MatMult), stem)
+            if isinstance(node, ast.Constant):
+                self.assertNotIsInstance(node.value, (float, bytes, complex), (stem, node.lineno))
+        for stem, node in nodes((ast.For, ast.While)):
+            self.assertEqual(node.orelse, [], (stem, node.lineno))
+        for stem, node in nodes(ast.Try):
+            self.assertEqual(node.finalbody, [], (stem, node.lineno))
+        for stem, node in nodes(ast.Assign):
+            self.assertEqual(len(node.targets), 1, (stem, node.lineno))
+        for stem, node in nodes(ast.ListComp):
+            self.assertEqual(len(node.generators), 1, (stem, node.lineno))
+            self.assertLessEqual(len(node.generators[0].ifs), 1, (stem, node.lineno))
+        for stem, node in nodes(ast.FormattedValue):
+            self.assertIsInstance(node.value, ast.Name, (stem, node.lineno))
+
+    def test_l8_l17_names_of_pythons_own(self):
+        for stem, node in nodes(ast.Name):
+            if hasattr(builtins, node.id):
+                self.assertIn(node.id, BUILT_IN, (stem, node.lineno))
+            self.assertNotIn(node.id, NAMES_OUT, (stem, node.lineno))
+
+    def test_l12_l15_l17_names(self):
+        for stem in TREES:
+            for name in names_at_top(stem) + names_within(stem):
+                self.assertRegex(name, r"^[A-Za-z][A-Za-z0-9_]*$", stem)
+                self.assertFalse(hasattr(builtins, name), (stem, name))
+                self.assertNotIn(name, NAMES_OUT, stem)
+            self.assertEqual(set(names_at_top(stem)) & set(names_within(stem)), set(), stem)
+        for name in methods_defined():
+            self.assertTrue(name in DUNDERS or re.match(r"^[A-Za-z][A-Za-z0-9_]*$", name), name)
+            self.assertNotIn(name, NAMES_OUT)
+
+    def test_l15_each_name_once_at_the_top(self):
+        for stem in TREES:
+            self.assertEqual(sorted(names_at_top(stem)), sorted(set(names_at_top(stem))), stem)
+
+    def test_l10_sizes(self):
+        for path in FILES:
+            rows = path.read_text().split("\n")
+            self.assertLessEqual(len(rows), 400, path.name)
+            self.assertLessEqual(max([len(row) for row in rows]), 120, path.name)
+        for stem, node in nodes(ast.FunctionDef):
+            self.assertLessEqual(node.end_lineno - node.lineno + 1, 40, (stem, node.name))
+
+    def test_l14_signs(self):
+        for path in FILES:
+            for sign in path.read_bytes():
+                self.assertTrue(sign == 10 or 32 <= sign <= 126, path.name)
+
+    def test_l17_words_that_stand_nowhere(self):
+        for path in FILES:
+            self.assertIsNone(WORDS_OUT.search(path.read_text()), path.name)
+
+    def test_l18_methods_and_values_are_called_otherwise(self):
+        stored = {node.attr for stem, node in nodes(ast.Attribute) if isinstance(node.ctx, ast.Store)}
+        self.assertEqual(methods_defined() & stored, set())
+        self.assertEqual(stored & set(VALUES_OUT), set())
+
+    def test_l19_errors_taken(self):
+        for stem, node in nodes(ast.ExceptHandler):
+            self.assertIsNotNone(node.type, (stem, node.lineno))
+            self.assertNotIn(ast.unparse(node.type), ("Exception", "TypeError"), (stem, node.lineno))
+        for stem, node in nodes(ast.Raise):
+            self.assertIsInstance(node.exc, ast.Call, (stem, node.lineno))
+
+    def test_l20_is(self):
+        for stem, node in nodes(ast.Compare):
+            for operator, right in zip(node.ops, node.comparators):
+                if isinstance(operator, (ast.Is, ast.IsNot)):
+                    self.assertIn(ast.unparse(right), ("None", "True", "False"), (stem, node.lineno))
+
+    def test_l25_methods(self):
+        for stem, node in nodes(ast.Call):
+            if isinstance(node.func, ast.Attribute):
+                self.assertIn(node.func.attr, methods_defined() | set(METHODS) | {"__init__"}, (stem, node.lineno))
+
+    def test_l27_numbers_and_texts(self):
+        for stem, node in nodes(ast.BinOp):
+            if isinstance(node.op, ast.Pow):
+                self.assertIsInstance(node.right, ast.Constant, (stem, node.lineno))
+        for stem, node in nodes(ast.Constant):
+            if isinstance(node.value, str):
+                self.assertNotIn("%", node.value, (stem, node.lineno))
+
+
+if __name__ == "__main__":
+    unittest.main()
