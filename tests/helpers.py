@@ -1,6 +1,7 @@
 """What several test files need: things of all kinds, small words and machines, and slow, plain answers."""
 
 from itertools import product
+from random import Random
 
 from looprank.machines import Machine
 
@@ -74,3 +75,101 @@ def rooms_again_and_again(machine, word, room):
     """The rooms of a stretch of whole rounds that lies behind everything that comes only for a while."""
     late = len(word[0]) + machine.many * len(word[1])
     return rooms_read(machine, word, room, late + machine.many * len(word[1]))[late:]
+
+
+def drawn_machines(seed, count, least_rooms=1, most_rooms=8):
+    """Machines of all these sizes by turns, with one, two and three letters, their steps and ranks drawn by a seed."""
+    draw = Random(seed)
+    found = []
+    for number in range(count):
+        rooms = least_rooms + number % (most_rooms - least_rooms + 1)
+        letters = draw.choice((1, 2, 2, 3, 3))
+        steps = [[draw.randrange(rooms) for letter in range(letters)] for room in range(rooms)]
+        top = draw.choice((1, 2, 4, rooms + 1))
+        found.append(Machine(steps, [draw.randrange(top) + draw.choice((0, 0, 0, 2)) for room in range(rooms)]))
+    return found
+
+
+def nested_machine(ranks, letters=3):
+    """a goes one room on, b goes back to room 0, c stays: the first rooms, as many as you like, are a loop."""
+    rooms = len(ranks)
+    return Machine([[(room + 1) % rooms, 0, room][:letters] for room in range(rooms)], ranks)
+
+
+def split_machine():
+    """Eight rooms: 0 is on no loop, 1 and 2 are a loop, 3 goes round by itself, 4 is on no loop; 5 to 7 cannot be
+    come to, 5 is on no loop, 6 and 7 are a loop."""
+    steps = [[1, 4], [2, 2], [1, 1], [3, 3], [3, 1], [6, 0], [7, 3], [6, 6]]
+    return Machine(steps, [5, 1, 2, 3, 9, 4, 8, 7])
+
+
+def set_of(bits):
+    """The rooms of bits as a set, by dividing by two."""
+    found = set()
+    room = 0
+    while bits:
+        if bits % 2 == 1:
+            found.add(room)
+        bits //= 2
+        room += 1
+    return found
+
+
+def bits_by_sum(rooms):
+    return sum([2 ** room for room in set(rooms)])
+
+
+def rooms_come_to(machine, room, word):
+    """The rooms to which the letters of a word lead, one after another."""
+    rooms = []
+    for letter in word:
+        room = machine.steps[room]["abc".index(letter)]
+        rooms.append(room)
+    return rooms
+
+
+def is_round_of(machine, room, word, bits):
+    """Whether the word leads from the room back to it and its rooms are just these (6)."""
+    rooms = rooms_come_to(machine, room, word)
+    return rooms != [] and rooms[-1] == room and set(rooms) == set_of(bits)
+
+
+def loops_by_search(machine):
+    """The bits of all loops, by walking along all words until no new pair of a room and of rooms come to is met."""
+    found = set()
+    for start in range(machine.many):
+        met = {(start, 0)}
+        left = [(start, 0)]
+        while left:
+            room, come_to = left.pop()
+            for place in machine.steps[room]:
+                pair = (place, come_to | 1 << place)
+                if pair not in met:
+                    met.add(pair)
+                    left.append(pair)
+        found.update([come_to for room, come_to in met if room == start and come_to])
+    return sorted(found)
+
+
+def seen_by_search(machine, start):
+    """The set of the rooms to which words lead from a room, the empty word among them."""
+    seen = {start}
+    while True:
+        more = seen | {place for room in seen for place in machine.steps[room]}
+        if more == seen:
+            return seen
+        seen = more
+
+
+def top_by_search(machine, bits):
+    return max([machine.ranks[room] for room in set_of(bits)])
+
+
+def good_by_search(machine, bits):
+    return top_by_search(machine, bits) % 2 == 0
+
+
+def reached_loops(machine):
+    """The bits of the loops that can be come to from room 0."""
+    reached = bits_by_sum(seen_by_search(machine, 0))
+    return [bits for bits in loops_by_search(machine) if bits & ~reached == 0]

@@ -34,6 +34,13 @@ WORDS_OUT = re.compile(
 NAMES_OUT = "register mro elements open input version_info with_traceback add_note".split()
 VALUES_OUT = """items keys values pop update append clear extend insert remove reverse setdefault sort args encode
     format""".split()
+WALKED = "zip enumerate reversed range items keys values".split()
+WALKERS = "list tuple dict sorted sum any all enumerate zip".split()
+CHANGES = "append clear extend insert pop remove reverse setdefault update".split()
+KEYWORDS = {
+    "sorted": ("key", "reverse"), "min": ("key", "default"), "max": ("key", "default"), "sum": ("start",),
+    "enumerate": ("start",), "zip": ("strict",),
+}
 
 
 def nodes(kind):
@@ -42,6 +49,49 @@ def nodes(kind):
 
 def drawn_from(stem):
     return [node.module.split(".")[1] for node in TREES[stem].body if isinstance(node, ast.ImportFrom)]
+
+
+def called(node):
+    """The name or the method that is called, of any other node None."""
+    if not isinstance(node, ast.Call):
+        return None
+    return node.func.attr if isinstance(node.func, ast.Attribute) else getattr(node.func, "id", None)
+
+
+def parents(kind):
+    """Nodes of a kind, each with the node in which it stands."""
+    pairs = [(stem, outer, node) for stem, tree in TREES.items() for outer in ast.walk(tree)
+             for node in ast.iter_child_nodes(outer)]
+    return [pair for pair in pairs if isinstance(pair[2], kind)]
+
+
+def is_walked_at_once(outer, node):
+    if isinstance(outer, (ast.For, ast.comprehension)):
+        return node is outer.iter
+    if called(outer) in WALKERS:
+        return node is outer.args[0]
+    if called(outer) in ("min", "max"):
+        return outer.args == [node]
+    return called(outer) == "join" and isinstance(outer.func.value, ast.Constant)
+
+
+def names_walked(node):
+    """The names that a loop walks, itself or through enumerate, zip, reversed or items."""
+    if isinstance(node, ast.Name):
+        return [node.id]
+    if called(node) in ("enumerate", "zip", "reversed"):
+        return [name for part in node.args for name in names_walked(part)]
+    return names_walked(node.func.value) if called(node) in ("items", "keys", "values") else []
+
+
+def names_changed(body):
+    found = []
+    for node in [part for statement in body for part in ast.walk(statement)]:
+        if isinstance(node, ast.Subscript) and isinstance(node.ctx, ast.Store):
+            found.append(ast.unparse(node.value))
+        if called(node) in CHANGES and isinstance(node.func, ast.Attribute):
+            found.append(ast.unparse(node.func.value))
+    return found
 
 
 def methods_defined():
@@ -198,6 +248,32 @@ class Language(unittest.TestCase):
             for operator, right in zip(node.ops, node.comparators):
                 if isinstance(operator, (ast.Is, ast.IsNot)):
                     self.assertIn(ast.unparse(right), ("None", "True", "False"), (stem, node.lineno))
+
+    def test_l22_keywords(self):
+        for stem, node in nodes(ast.Call):
+            if hasattr(builtins, called(node) or "") or called(node) in METHODS:
+                for keyword in node.keywords:
+                    self.assertIn(keyword.arg, KEYWORDS.get(called(node), ()), (stem, node.lineno))
+
+    def test_l22_called_and_not_kept(self):
+        for stem, outer, node in parents(ast.Name):
+            if node.id in BUILT_IN and not isinstance(getattr(builtins, node.id), type):
+                self.assertIsInstance(outer, (ast.Call, ast.keyword), (stem, node.lineno))
+
+    def test_l23_walked_at_once(self):
+        for stem, outer, node in parents(ast.Call):
+            if called(node) in WALKED:
+                self.assertTrue(is_walked_at_once(outer, node), (stem, node.lineno))
+
+    def test_l23_what_a_loop_walks_is_not_changed_in_it(self):
+        for stem, node in nodes(ast.For):
+            self.assertEqual(set(names_walked(node.iter)) & set(names_changed(node.body)), set(), (stem, node.lineno))
+
+    def test_l24_sets(self):
+        for stem, outer, node in parents((ast.Call, ast.Set)):
+            if isinstance(node, ast.Set) or called(node) in ("set", "frozenset"):
+                asked = isinstance(outer, ast.Compare) or called(outer) in ("sorted", "len") and not outer.keywords
+                self.assertTrue(asked or isinstance(outer, ast.BinOp), (stem, node.lineno))
 
     def test_l25_methods(self):
         for stem, node in nodes(ast.Call):
