@@ -24,35 +24,53 @@ def all_rooms(machine):
     return bits_of(list(range(machine.many)))
 
 
-def seen_within(machine, allowed, room):
-    return bits_of(list(ways_from(machine, room, rooms_of(allowed))))
+def joined(sets):
+    bits = 0
+    for rooms in sets:
+        bits = bits | rooms
+    return bits
 
 
-def seen_from(machine, room):
-    return seen_within(machine, all_rooms(machine), room)
-
-
-def reaching(machine, goals):
-    return bits_of([room for room in range(machine.many) if seen_from(machine, room) & goals != 0])
-
-
-def goes_round(machine, part):
-    # Two rooms that can be come to from one another lie on a loop; a single one needs a letter back to itself.
-    rooms = rooms_of(part)
-    return len(rooms) > 1 or rooms[0] in machine.steps[rooms[0]]
-
-
-def loop_parts(machine, allowed):
+def seen_among(steps, allowed):
+    # Once a room has been the middle one, each way is counted whose rooms between have all been middle ones.
     rooms = rooms_of(allowed)
     seen = {}
     for room in rooms:
-        seen[room] = seen_within(machine, allowed, room)
+        seen[room] = (bits_of(steps[room]) | 1 << room) & allowed
+    for middle in rooms:
+        for room in rooms:
+            if has_room(seen[room], middle):
+                seen[room] = seen[room] | seen[middle]
+    return seen
+
+
+def seen_from(machine, room):
+    return seen_among(machine.steps, all_rooms(machine))[room]
+
+
+def reaching(machine, goals):
+    seen = seen_among(machine.steps, all_rooms(machine))
+    return bits_of([room for room in range(machine.many) if seen[room] & goals != 0])
+
+
+def goes_round(steps, part):
+    # Two rooms that can be come to from one another lie on a loop; a single one needs a letter back to itself.
+    rooms = rooms_of(part)
+    return len(rooms) > 1 or rooms[0] in steps[rooms[0]]
+
+
+def parts_among(steps, allowed):
+    seen = seen_among(steps, allowed)
     parts = []
-    for room in rooms:
+    for room in rooms_of(allowed):
         part = bits_of([other for other in rooms_of(seen[room]) if has_room(seen[other], room)])
-        if part not in parts and goes_round(machine, part):
+        if part not in parts and goes_round(steps, part):
             parts.append(part)
     return parts
+
+
+def loop_parts(machine, allowed):
+    return parts_among(machine.steps, allowed)
 
 
 def is_loop(machine, bits):
@@ -72,7 +90,7 @@ def is_good(machine, bits):
 def way_in(machine, allowed, room, goal):
     if not has_room(allowed, room):
         return None
-    return ways_from(machine, room, rooms_of(allowed)).get(goal)
+    return ways_from(machine.steps, room, rooms_of(allowed)).get(goal)
 
 
 def round_in(machine, bits, room):
@@ -102,21 +120,23 @@ def parts_topped(machine, allowed, rank):
     return [part for part in loop_parts(machine, low) if top_rank(machine, part) == rank]
 
 
-def loop_found(machine, allowed, wanted):
+def loops_of_sort(machine, allowed, wanted):
+    # Each loop of the sort lies within one of these, the one that has its greatest rank.
+    found = []
     for rank in ranks_of_sort(machine, allowed, wanted):
-        parts = parts_topped(machine, allowed, rank)
-        if parts != []:
-            return parts[0]
-    return None
+        found.extend(parts_topped(machine, allowed, rank))
+    return found
+
+
+def loop_found(machine, allowed, wanted):
+    loops = loops_of_sort(machine, allowed, wanted)
+    return loops[0] if loops != [] else None
 
 
 def never_coming_to(machine, wanted):
     # A word from a room is of a sort just where it ends in a loop of the sort, so only rooms ahead of one have such.
     everywhere = all_rooms(machine)
-    goals = 0
-    for rank in ranks_of_sort(machine, everywhere, wanted):
-        for part in parts_topped(machine, everywhere, rank):
-            goals = goals | part
+    goals = joined(loops_of_sort(machine, everywhere, wanted))
     return everywhere ^ reaching(machine, goals)
 
 

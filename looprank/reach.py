@@ -4,14 +4,14 @@ from looprank.machines import Machine
 from looprank.words import LETTERS
 
 
-def ways_from(machine, start, allowed):
+def ways_from(steps, start, allowed):
     # The dict keeps the order in which rooms are met: shorter words first, those of one length by alphabet.
     ways = {start: ""}
     met = [start]
     place = 0
     while place < len(met):
         here = met[place]
-        for letter, room in zip(LETTERS, machine.steps[here]):
+        for letter, room in zip(LETTERS, steps[here]):
             if room in allowed and room not in ways:
                 ways[room] = ways[here] + letter
                 met.append(room)
@@ -20,7 +20,7 @@ def ways_from(machine, start, allowed):
 
 
 def rooms_reached(machine):
-    ways = ways_from(machine, 0, list(range(machine.many)))
+    ways = ways_from(machine.steps, 0, list(range(machine.many)))
     return list(ways.items())
 
 

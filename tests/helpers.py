@@ -134,21 +134,25 @@ def is_round_of(machine, room, word, bits):
     return rooms != [] and rooms[-1] == room and set(rooms) == set_of(bits)
 
 
-def loops_by_search(machine):
+def loops_in(steps):
     """The bits of all loops, by walking along all words until no new pair of a room and of rooms come to is met."""
     found = set()
-    for start in range(machine.many):
+    for start in range(len(steps)):
         met = {(start, 0)}
         left = [(start, 0)]
         while left:
             room, come_to = left.pop()
-            for place in machine.steps[room]:
+            for place in steps[room]:
                 pair = (place, come_to | 1 << place)
                 if pair not in met:
                     met.add(pair)
                     left.append(pair)
         found.update([come_to for room, come_to in met if room == start and come_to])
     return sorted(found)
+
+
+def loops_by_search(machine):
+    return loops_in(machine.steps)
 
 
 def seen_by_search(machine, start):
@@ -173,3 +177,68 @@ def reached_loops(machine):
     """The bits of the loops that can be come to from room 0."""
     reached = bits_by_sum(seen_by_search(machine, 0))
     return [bits for bits in loops_by_search(machine) if bits & ~reached == 0]
+
+
+def keeps_the_loops(machine, loops, ranks):
+    """Whether each of these loops is good by these ranks just where it is by the machine's own."""
+    for loop in loops:
+        if (max([ranks[room] for room in set_of(loop)]) % 2 == 0) != good_by_search(machine, loop):
+            return False
+    return True
+
+
+def is_settled_by_search(machine):
+    loops = reached_loops(machine)
+    return not [1 for loop in loops for other in loops
+                if loop & other == loop and good_by_search(machine, loop) != good_by_search(machine, other)]
+
+
+def layered_machines(seed, count, least_rooms=1, most_rooms=8):
+    """Machines whose letters lead mostly a little onward, so that they have several parts, most of these with ranks
+    that are all even or all odd: many of the machines are settled."""
+    draw = Random(seed)
+    found = []
+    for number in range(count):
+        rooms = least_rooms + number % (most_rooms - least_rooms + 1)
+        letters = draw.choice((1, 2, 2, 3, 3))
+        back = draw.choice((3, 12, 12, 24))
+        steps = [[draw.randrange(rooms) if draw.randrange(back) == 0 else min(room + draw.randrange(3), rooms - 1)
+                  for letter in range(letters)] for room in range(rooms)]
+        ranks = [draw.randrange(6) for room in range(rooms)]
+        if draw.randrange(4):
+            for loop in loops_in(steps):
+                sort = draw.randrange(2)
+                for room in set_of(loop):
+                    ranks[room] = 2 * draw.randrange(3) + sort
+        found.append(Machine(steps, ranks))
+    return found
+
+
+def settled_machines(seed, count, least_rooms=1, most_rooms=8):
+    """Settled machines, found by a search through all loops, of all these sizes."""
+    found = [machine for machine in layered_machines(seed, 4 * count, least_rooms, most_rooms)
+             if is_settled_by_search(machine)]
+    return found[:count]
+
+
+def pairs_by_search(one, other, left=0, right=0):
+    """The pairs to which words lead, rising."""
+    seen = {(left, right)}
+    while True:
+        more = seen | {pair for here in seen for pair in zip(one.steps[here[0]], other.steps[here[1]])}
+        if more == seen:
+            return sorted(seen)
+        seen = more
+
+
+def shuffled(machine, draw):
+    """The same machine with its rooms numbered otherwise, but for room 0."""
+    order = [0] + draw.sample(range(1, machine.many), machine.many - 1)
+    steps = [[order.index(goal) for goal in machine.steps[room]] for room in order]
+    return Machine(steps, [machine.ranks[room] for room in order])
+
+
+def unfolded(machine, draw):
+    """Each room of a machine of at most four rooms twice; each letter leads to one of the two copies of its room."""
+    steps = [[goal + machine.many * draw.randrange(2) for goal in row] for row in machine.steps * 2]
+    return Machine(steps, machine.ranks * 2)

@@ -34,6 +34,7 @@ WORDS_OUT = re.compile(
 NAMES_OUT = "register mro elements open input version_info with_traceback add_note".split()
 VALUES_OUT = """items keys values pop update append clear extend insert remove reverse setdefault sort args encode
     format""".split()
+FREE_VALUES = "count index title find get join lower upper split strip copy add".split()
 WALKED = "zip enumerate reversed range items keys values".split()
 WALKERS = "list tuple dict sorted sum any all enumerate zip".split()
 CHANGES = "append clear extend insert pop remove reverse setdefault update".split()
@@ -98,6 +99,10 @@ def methods_defined():
     return {part.name for stem, node in nodes(ast.ClassDef) for part in node.body if isinstance(part, ast.FunctionDef)}
 
 
+def classes_defined():
+    return {node.name for stem, node in nodes(ast.ClassDef)}
+
+
 def names_at_top(stem):
     found = []
     for node in TREES[stem].body:
@@ -113,13 +118,14 @@ def names_at_top(stem):
 def names_within(stem):
     """Parameters and locals, and functions within functions."""
     found = []
+    methods = methods_defined()
     for top in TREES[stem].body:
         for node in ast.walk(top):
             if isinstance(node, ast.Name) and isinstance(node.ctx, ast.Store) and not isinstance(top, ast.Assign):
                 found.append(node.id)
             if isinstance(node, ast.arg):
                 found.append(node.arg)
-            if isinstance(node, ast.FunctionDef) and node is not top and node.name not in methods_defined():
+            if isinstance(node, ast.FunctionDef) and node is not top and node.name not in methods:
                 found.append(node.name)
             if isinstance(node, ast.ExceptHandler) and node.name:
                 found.append(node.name)
@@ -236,6 +242,26 @@ class Language(unittest.TestCase):
         self.assertEqual(methods_defined() & stored, set())
         self.assertEqual(stored & set(VALUES_OUT), set())
 
+    def test_l18_classes_are_called_or_stood_under(self):
+        classes = classes_defined()
+        for stem, outer, node in parents(ast.Name):
+            if node.id in classes:
+                called_here = isinstance(outer, ast.Call) and node is outer.func
+                named = isinstance(outer, (ast.ClassDef, ast.ExceptHandler)) or called(outer) == "isinstance"
+                before_init = isinstance(outer, ast.Attribute) and outer.attr == "__init__"
+                self.assertTrue(called_here or named or before_init, (stem, node.lineno))
+
+    def test_l18_no_method_stands_twice(self):
+        for stem, node in nodes(ast.ClassDef):
+            names = [part.name for part in node.body if isinstance(part, ast.FunctionDef)]
+            self.assertEqual(sorted(names), sorted(set(names)), (stem, node.name))
+
+    def test_l18_values_are_given_through_a_local_name(self):
+        for stem, node in nodes(ast.Attribute):
+            if isinstance(node.ctx, ast.Store):
+                self.assertIsInstance(node.value, ast.Name, (stem, node.lineno))
+                self.assertNotIn(node.value.id, names_at_top(stem), (stem, node.lineno))
+
     def test_l19_errors_taken(self):
         for stem, node in nodes(ast.ExceptHandler):
             self.assertIsNotNone(node.type, (stem, node.lineno))
@@ -276,9 +302,22 @@ class Language(unittest.TestCase):
                 self.assertTrue(asked or isinstance(outer, ast.BinOp), (stem, node.lineno))
 
     def test_l25_methods(self):
+        known = methods_defined() | set(METHODS) | {"__init__"}
         for stem, node in nodes(ast.Call):
             if isinstance(node.func, ast.Attribute):
-                self.assertIn(node.func.attr, methods_defined() | set(METHODS) | {"__init__"}, (stem, node.lineno))
+                self.assertIn(node.func.attr, known, (stem, node.lineno))
+
+    def test_l26_own_methods_and_values(self):
+        taken = {name for kind in (str, int, list, dict, set, bytes, tuple) for name in dir(kind)}
+        stored = {node.attr for stem, node in nodes(ast.Attribute) if isinstance(node.ctx, ast.Store)}
+        self.assertEqual(methods_defined() & taken - set(METHODS) - set(DUNDERS) - {"add", "discard"}, set())
+        self.assertEqual(stored & taken - set(FREE_VALUES), set())
+
+    def test_l28_init_gives_back_nothing(self):
+        for stem, node in nodes(ast.FunctionDef):
+            if node.name == "__init__":
+                self.assertFalse([part for part in ast.walk(node) if isinstance(part, ast.Return)], stem)
+            self.assertNotIn(node.name, ("__eq__", "__repr__", "__str__", "__len__"), stem)
 
     def test_l27_numbers_and_texts(self):
         for stem, node in nodes(ast.BinOp):

@@ -4,8 +4,8 @@ import unittest
 from itertools import product
 
 from helpers import (
-    bits_by_sum, drawn_machines, good_by_search, nested_machine, reached_loops, rooms_come_to, seen_by_search, set_of,
-    small_machines, split_machine, tellings_up_to,
+    bits_by_sum, drawn_machines, good_by_search, keeps_the_loops, nested_machine, reached_loops, rooms_come_to,
+    seen_by_search, set_of, small_machines, split_machine, tellings_up_to,
 )
 from looprank.lowest import lowered, lowest_ranks, nests, ranks_from
 from looprank.machines import Machine
@@ -58,13 +58,6 @@ def lengths_by_search(machine, loops):
 
 def length(nest):
     return 0 if nest is None else len(nest[1])
-
-
-def keeps_the_loops(machine, loops, ranks):
-    for loop in loops:
-        if (max([ranks[room] for room in set_of(loop)]) % 2 == 0) != good_by_search(machine, loop):
-            return False
-    return True
 
 
 def rooms_on(loops):
