@@ -1,13 +1,15 @@
 """Joints: two machines that let a word by together, by a truth of both answers."""
 
+from looprank.machines import Machine
 from looprank.pairs import check_letters, wanted_word
 
 
 class Joint:
     def __init__(self, one, other):
         check_letters(one, other)
-        self.inner = one
-        self.outer = other
+        # Whatever is kept of what is handed in is kept as a copy.
+        self.inner = Machine(one.steps, one.ranks)
+        self.outer = Machine(other.steps, other.ranks)
 
     def leads(self):
         return (self.truth(True, True), self.truth(True, False), self.truth(False, True), self.truth(False, False))

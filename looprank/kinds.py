@@ -101,6 +101,9 @@ class Lasting(Kind):
         return ranks_from(machine, 0)
 
 
+def all_kinds():
+    return [EarlyNo(), EarlyYes(), Settled(), Again(), Lasting()]
+
+
 def kinds_of(machine):
-    kinds = [EarlyNo(), EarlyYes(), Settled(), Again(), Lasting()]
-    return [kind.word() for kind in kinds if kind.bar(machine) is None]
+    return [kind.word() for kind in all_kinds() if kind.bar(machine) is None]

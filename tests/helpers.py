@@ -242,3 +242,62 @@ def unfolded(machine, draw):
     """Each room of a machine of at most four rooms twice; each letter leads to one of the two copies of its room."""
     steps = [[goal + machine.many * draw.randrange(2) for goal in row] for row in machine.steps * 2]
     return Machine(steps, machine.ranks * 2)
+
+
+def turning_machines(seed, count, least_rooms=1, most_rooms=6):
+    """Settled machines whose parts are good and bad by turns, so that most of their rooms are unlike: letters stay or
+    lead a little onward, now and then anywhere; each part (33) has one sort."""
+    draw = Random(seed)
+    found = []
+    for number in range(count):
+        rooms = least_rooms + number % (most_rooms - least_rooms + 1)
+        letters = 1 + number // (most_rooms - least_rooms + 1) % 3
+        stays = draw.choice((0, 1, 3))
+        steps = [[draw.choice([room] * stays + [draw.randrange(rooms)]) if draw.randrange(3) == 0
+                  else min(room + draw.randrange(3), rooms - 1) for letter in range(letters)] for room in range(rooms)]
+        ranks = [draw.randrange(4) for room in range(rooms)]
+        loops = loops_in(steps)
+        greatest = [loop for loop in loops if not [other for other in loops if loop != other and loop & other == loop]]
+        for place, loop in enumerate(sorted(greatest, key=lambda bits: min(set_of(bits)))):
+            for room in set_of(loop):
+                ranks[room] = 2 * draw.randrange(2) + (place + seed) % 2
+        found.append(Machine(steps, ranks))
+    return found
+
+
+def lets_by_search(machine, word):
+    return max([machine.ranks[room] for room in rooms_again_and_again(machine, word, 0)]) % 2 == 0
+
+
+def pairs_with_fronts(one, other, start):
+    """The pairs to which words of one letter at least lead from a pair, each with a shortest such word."""
+    fronts = {}
+    left = [(start, "")]
+    for here, text in left:
+        for letter, goal in zip("abc", zip(one.steps[here[0]], other.steps[here[1]])):
+            if goal not in fronts:
+                fronts[goal] = text + letter
+                left.append((goal, text + letter))
+    return fronts
+
+
+def wrong_words(one, other):
+    """An endless word for each pair of rooms of two settled machines that goes round so that just one lets it by; as
+    all rounds of a room of a settled machine are let by alike, there is none only where the machines are alike."""
+    found = []
+    for pair, front in {**pairs_with_fronts(one, other, (0, 0)), (0, 0): ""}.items():
+        rounds = pairs_with_fronts(one, other, pair)
+        if pair in rounds:
+            word = (front, rounds[pair])
+            if lets_by_search(one, word) != lets_by_search(other, word):
+                found.append(word)
+    return found
+
+
+def stretched(word, draw, most=40):
+    """The same endless word with some rounds more ahead and its round told several times, up to so many letters."""
+    front, cycle = word
+    for turn in range(draw.choice((0, 0, 1, 2, 40))):
+        if len(front) + len(cycle) <= most:
+            front += cycle
+    return front, cycle * draw.randint(1, max(1, draw.choice((1, most)) // len(cycle)))

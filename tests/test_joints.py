@@ -5,8 +5,8 @@ from itertools import product
 from random import Random
 
 from helpers import (
-    drawn_machines, layered_machines, nested_machine, odd_things, pairs_by_search, rooms_again_and_again,
-    small_machines, split_machine, tellings_up_to,
+    drawn_machines, layered_machines, lets_by_search, nested_machine, odd_things, pairs_by_search, small_machines,
+    split_machine, tellings_up_to,
 )
 from looprank.errors import NoWord, OtherLetters
 from looprank.joints import Both, Either, Joint, Less, Nor, Unlike
@@ -38,10 +38,6 @@ def twos():
     return found
 
 
-def lets_by_search(machine, word):
-    return max([machine.ranks[room] for room in rooms_again_and_again(machine, word, 0)]) % 2 == 0
-
-
 class Truths(unittest.TestCase):
     def test_the_classes(self):
         for name in JOINTS:
@@ -63,17 +59,39 @@ class Truths(unittest.TestCase):
 
 
 class Made(unittest.TestCase):
+    def check_kept(self, joint):
+        self.assertIsInstance(joint.inner, Machine)
+        self.assertIsInstance(joint.outer, Machine)
+        self.assertEqual((joint.inner.steps, joint.inner.ranks), ([[1, 0, 0], [0, 0, 1]], [1, 2]))
+        self.assertEqual((joint.outer.steps, joint.outer.ranks), ([[1, 0, 0], [0, 0, 1]], [2, 3]))
+
     def test_a_joint_keeps_the_two_machines(self):
-        one = nested_machine([1, 2])
-        other = nested_machine([2, 3])
         for name in JOINTS:
-            joint = name(one, other)
-            self.assertIs(joint.inner, one)
-            self.assertIs(joint.outer, other)
+            joint = name(nested_machine([1, 2]), nested_machine([2, 3]))
+            self.check_kept(joint)
             joint.lets(("", "a"))
             joint.some_word()
-            self.assertEqual((joint.inner.steps, joint.inner.ranks), ([[1, 0, 0], [0, 0, 1]], [1, 2]))
-            self.assertEqual((joint.outer.steps, joint.outer.ranks), ([[1, 0, 0], [0, 0, 1]], [2, 3]))
+            self.check_kept(joint)
+
+    def test_what_is_kept_is_kept_as_a_copy(self):
+        """Point 2: whatever becomes of the machines that were handed in, the joint stays as it was made."""
+        for name in JOINTS:
+            one = nested_machine([1, 2])
+            other = nested_machine([2, 3])
+            joint = name(one, other)
+            word = joint.some_word()
+            one.steps[0][0] = 0
+            one.ranks[0] = 8
+            other.steps.pop()
+            other.ranks.append(1)
+            self.check_kept(joint)
+            self.assertEqual(joint.some_word(), word)
+
+    def test_a_joint_of_one_machine_keeps_it_twice(self):
+        machine = nested_machine([1, 2])
+        joint = Both(machine, machine)
+        self.assertIsNot(joint.inner, joint.outer)
+        self.assertIsNot(joint.inner, machine)
 
     def test_a_machine_with_itself(self):
         machine = nested_machine([1, 2])

@@ -103,6 +103,32 @@ def classes_defined():
     return {node.name for stem, node in nodes(ast.ClassDef)}
 
 
+def is_plain(node, above, outer=None):
+    """Whether this is a value that may stand at a file's top: a dict or list in no other, functions only from above."""
+    if isinstance(node, ast.Constant):
+        return isinstance(node.value, (int, str)) or node.value is None
+    if isinstance(node, ast.Name):
+        return node.id in above
+    if isinstance(node, ast.Tuple):
+        return all([is_plain(part, above, node) for part in node.elts])
+    if outer is not None:
+        return False
+    if isinstance(node, ast.List):
+        return all([is_plain(part, above, node) for part in node.elts])
+    return isinstance(node, ast.Dict) and all([is_plain(part, above, node) for part in node.keys + node.values])
+
+
+def is_only_read(outer, node):
+    """Whether a list or dict of a file's top is asked with an index, a walk, in, ==, len or get, or copied."""
+    if isinstance(outer, ast.Subscript):
+        return node is outer.value and isinstance(outer.ctx, ast.Load)
+    if isinstance(outer, (ast.For, ast.comprehension)):
+        return node is outer.iter
+    if isinstance(outer, ast.Attribute):
+        return outer.attr in ("get", "items", "keys", "values", "index", "count", "copy")
+    return isinstance(outer, ast.Compare) or called(outer) in ("len", "sorted", "list", "dict", "zip", "enumerate")
+
+
 def names_at_top(stem):
     found = []
     for node in TREES[stem].body:
@@ -166,6 +192,26 @@ class Language(unittest.TestCase):
             self.assertIsNotNone(ast.get_docstring(tree), stem)
             for node in tree.body[1:]:
                 self.assertIsInstance(node, (ast.ImportFrom, ast.FunctionDef, ast.ClassDef, ast.Assign), stem)
+
+    def test_l3_l15_values_at_the_top_are_plain(self):
+        for stem, tree in TREES.items():
+            above = []
+            for node in tree.body:
+                if isinstance(node, ast.FunctionDef):
+                    above.append(node.name)
+                if isinstance(node, ast.Assign):
+                    self.assertTrue(is_plain(node.value, above), (stem, node.lineno))
+
+    def test_l15_lists_and_dicts_of_the_top_are_only_read(self):
+        kept = {}
+        for stem, tree in TREES.items():
+            kept[stem] = [node.targets[0].id for node in tree.body
+                          if isinstance(node, ast.Assign) and isinstance(node.value, (ast.List, ast.Dict))]
+        self.assertTrue(any(kept.values()))
+        every = [name for names in kept.values() for name in names]
+        for stem, outer, node in parents(ast.Name):
+            if node.id in every and not isinstance(node.ctx, ast.Store):
+                self.assertTrue(is_only_read(outer, node), (stem, node.lineno))
 
     def test_l4_l21_functions(self):
         for stem, node in nodes((ast.FunctionDef, ast.Lambda)):
